@@ -1,0 +1,1 @@
+"""Allparts: one least machine that knows every part of some texts."""

@@ -1,0 +1,103 @@
+"""What the document says of a book, found by looking through all its parts; and the books that tests use."""
+
+import itertools
+import random
+
+LETTERS = "abcdefghijklmnopqrstuvwxyz"
+
+NO_NUMBERS = (True, False, None, "0", "", "a", 0.0, 1.5, [], [0], (), (0,), {}, object())
+
+
+def places_by_word(book):
+    found = {"": []}
+    for number, text in enumerate(book):
+        for end in range(len(text) + 1):
+            for start in range(end + 1):
+                found.setdefault(text[start:end], []).append((number, end))
+    return {word: sorted(places) for word, places in found.items()}
+
+
+def stands(book):
+    """The lists of the words with the same places, shortest word first, in the order of the stands."""
+    groups = {}
+    for word, places in places_by_word(book).items():
+        groups.setdefault(tuple(places), []).append(word)
+    ordered = [sorted(group, key=len) for group in groups.values()]
+    return sorted(ordered, key=lambda group: (len(group[0]), group[0]))
+
+
+def table(book):
+    found = places_by_word(book)
+    groups = stands(book)
+    number = {word: k for k, group in enumerate(groups) for word in group}
+    return [
+        (len(group[0]), len(group[-1]), link_of(group[-1], found, number), ways_of(group, number))
+        for group in groups
+    ]
+
+
+def link_of(word, found, number):
+    for start in range(1, len(word) + 1):
+        if found[word[start:]] != found[word]:
+            return number[word[start:]]
+    return None
+
+
+def ways_of(group, number):
+    ways = []
+    for sign in LETTERS:
+        behind = {number.get(word + sign) for word in group}
+        if behind != {None}:
+            assert len(behind) == 1, (group, sign)
+            ways.append((sign, behind.pop()))
+    return tuple(ways)
+
+
+def all_words(letters, most):
+    return ["".join(signs) for long in range(most + 1) for signs in itertools.product(letters, repeat=long)]
+
+
+def chance_word(chance, letters, most):
+    return "".join(chance.choice(letters) for sign in range(chance.randint(0, most)))
+
+
+def small_books():
+    books = [[], [""], ["", ""], [""] * 8, ["a"], ["z"], ["a", ""], ["", "a"], ["a", "a"], ["a", "b"], ["b", "a"]]
+    books += [["a" * long] for long in range(2, 9)]
+    books += [["abcab", "abc"], ["abc", "abcab"], ["abcab", "cab"], ["cab", "abcab"], ["abcab", "abcab"]]
+    books += [["abcbc"], ["abbb"], ["abbbc"], ["aabbabb"], ["ab", "bab", "abab", "babab"], ["abab", "", "abab", "b"]]
+    books += [["zyx", "xyz", "yy"], [LETTERS], ["a", "b", "c", "d", "e", "f", "g", "h"]]
+    books += [[text] for text in all_words("ab", 6)]
+    books += [[text] for text in all_words("abc", 4)]
+    books += [list(texts) for texts in itertools.product(all_words("ab", 3), repeat=2)]
+    books += [list(texts) for texts in itertools.product(all_words("ab", 2), repeat=3)]
+    chance = random.Random(1)
+    for count in range(200):
+        letters = chance.choice(["ab", "abc", "xyz", "aab"])
+        books.append([chance_word(chance, letters, 7) for text in range(chance.randint(1, 8))])
+    return books
+
+
+def great_books():
+    """Books of 120 signs."""
+    fibonacci = ["b", "a"]
+    while len(fibonacci[-1]) < 120:
+        fibonacci.append(fibonacci[-1] + fibonacci[-2])
+    chance = random.Random(2)
+    one = "".join(chance.choice("ab") for sign in range(120))
+    many = ["".join(chance.choice("ab") for sign in range(15)) for text in range(8)]
+    wide = "".join(chance.choice(LETTERS) for sign in range(120))
+    return [
+        ["a" * 120],
+        ["a" * 15] * 8,
+        ["a" + "b" * 119],
+        ["a" + "b" * 118 + "c"],
+        [fibonacci[-1][:120]],
+        [one],
+        [one[:60], one[60:]],
+        [one[:60], one[:60]],
+        [one[:60], one[10:60], one[:10]],
+        many,
+        [wide],
+        [wide[:100], "", wide[80:100]],
+    ]

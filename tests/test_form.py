@@ -1,0 +1,148 @@
+"""Holds the package's files to the part of Python that the program keeps to, as far as it shows in their form."""
+
+import ast
+import builtins
+import pathlib
+import re
+import unittest
+
+PACKAGE = pathlib.Path(__file__).resolve().parent.parent / "allparts"
+
+NODES = """Module FunctionDef ClassDef arguments arg ImportFrom alias Expr Assign AugAssign If While For Return Break
+Continue Pass Raise Try ExceptHandler Constant List Tuple Dict Set Name Attribute Subscript Slice Call keyword BinOp
+UnaryOp BoolOp Compare IfExp ListComp comprehension JoinedStr FormattedValue Lambda Load Store Add Sub Mult FloorDiv Mod
+Pow BitAnd BitOr BitXor LShift RShift Invert USub UAdd Not And Or Eq NotEq Lt LtE Gt GtE Is IsNot In NotIn""".split()
+
+PYTHONS_OWN = """len range enumerate zip min max sum abs sorted reversed int str bool list tuple dict set frozenset isinstance
+ord repr any all divmod Exception ValueError TypeError KeyError IndexError LookupError ZeroDivisionError ArithmeticError
+OverflowError RuntimeError NotImplementedError AttributeError StopIteration""".split()
+
+METHODS = """append clear copy count endswith extend find get index insert isalnum isalpha isdigit islower isspace isupper
+items join keys ljust lower lstrip partition pop remove replace reverse rfind rjust rpartition rsplit rstrip setdefault
+split splitlines startswith strip update upper values zfill bit_length __init__""".split()
+
+WORDS = """type typing typing_extensions enum Enum IntEnum StrEnum Flag IntFlag Generic Protocol ABC ABCMeta namedtuple
+NamedTuple TypedDict TYPE_CHECKING abstractmethod""".split()
+
+WALKED = ("zip", "enumerate", "reversed", "range", "items", "keys", "values")
+
+
+def called(node):
+    """The name that a call calls, or None."""
+    if not isinstance(node, ast.Call):
+        return None
+    return node.func.id if isinstance(node.func, ast.Name) else getattr(node.func, "attr", None)
+
+
+class Form(unittest.TestCase):
+    def setUp(self):
+        self.files = sorted(path for path in PACKAGE.iterdir() if path.name != "__pycache__")
+        self.trees = {path: ast.parse(path.read_text("utf-8")) for path in self.files}
+
+    def nodes(self):
+        return [(f"{path.name}:{getattr(node, 'lineno', 0)}", node)
+                for path, tree in self.trees.items() for node in ast.walk(tree)]
+
+    def test_files(self):
+        self.assertIn(PACKAGE / "__init__.py", self.files)
+        for path in self.files:
+            self.assertTrue(path.is_file() and re.fullmatch(r"[a-z0-9_]+\.py", path.name), path)
+            if path.stem not in ("__init__", "__main__"):
+                self.assertFalse(hasattr(builtins, path.stem) or path.stem in WORDS, path)
+            self.assertFalse(re.match(r"test|site|conftest|sitecustomize|usercustomize", path.stem), path)
+
+    def test_signs_and_sizes(self):
+        for path in self.files:
+            text = path.read_text("utf-8")
+            self.assertRegex(text, r"\A[ -~\n]*\Z", path)
+            self.assertLessEqual(len(text.splitlines()), 400, path)
+            self.assertLessEqual(max(len(line) for line in text.splitlines()), 120, path)
+        for where, node in self.nodes():
+            if isinstance(node, ast.FunctionDef):
+                self.assertLessEqual(node.end_lineno - node.lineno + 1, 40, where)
+
+    def test_words_that_stand_nowhere(self):
+        for path in self.files:
+            text = path.read_text("utf-8")
+            self.assertEqual([word for word in re.findall(r"\w+", text) if word in WORDS], [], path)
+            self.assertNotRegex(text, r"dataclass|overload|contextmanager", path)
+
+    def test_nodes(self):
+        for where, node in self.nodes():
+            self.assertIn(node.__class__.__name__, NODES, where)
+            if isinstance(node, ast.Assign):
+                self.assertEqual(len(node.targets), 1, where)
+            if isinstance(node, (ast.FunctionDef, ast.ClassDef)):
+                self.assertEqual(node.decorator_list, [], where)
+            if isinstance(node, ast.arguments):
+                self.assertEqual((node.vararg, node.kwarg, node.kwonlyargs, node.posonlyargs), (None, None, [], []), where)
+            if isinstance(node, (ast.For, ast.While)):
+                self.assertEqual(node.orelse, [], where)
+            if isinstance(node, ast.comprehension):
+                self.assertLessEqual(len(node.ifs), 1, where)
+            if isinstance(node, ast.ListComp):
+                self.assertEqual(len(node.generators), 1, where)
+            if isinstance(node, ast.Constant):
+                self.assertIn(node.value.__class__.__name__, ("int", "str", "bool", "NoneType"), where)
+            if isinstance(node, ast.Compare) and any(isinstance(op, (ast.Is, ast.IsNot)) for op in node.ops):
+                self.assertTrue(all(isinstance(side, ast.Constant) for side in node.comparators), where)
+
+    def test_tops(self):
+        for path, tree in self.trees.items():
+            self.assertIsNotNone(ast.get_docstring(tree), path)
+            bound = []
+            for node in tree.body[1:]:
+                self.assertIsInstance(node, (ast.ImportFrom, ast.FunctionDef, ast.ClassDef, ast.Assign), path)
+                if isinstance(node, ast.Assign):
+                    bound.append(node.targets[0].id)
+                elif isinstance(node, ast.ImportFrom):
+                    bound.extend(alias.name for alias in node.names)
+                else:
+                    bound.append(node.name)
+            self.assertEqual(len(bound), len(set(bound)), path)
+
+    def test_imports(self):
+        for where, node in self.nodes():
+            if isinstance(node, ast.ImportFrom):
+                self.assertEqual(node.level, 0, where)
+                self.assertRegex(node.module, r"\Aallparts\.\w+\Z", where)
+                tree = self.trees[PACKAGE / (node.module.split(".")[1] + ".py")]
+                own = [top.name for top in tree.body if isinstance(top, (ast.FunctionDef, ast.ClassDef))]
+                own += [top.targets[0].id for top in tree.body if isinstance(top, ast.Assign)]
+                for alias in node.names:
+                    self.assertIn(alias.name, own, where)
+
+    def test_no_two_files_draw_from_one_another(self):
+        draws = {path.stem: [node.module.split(".")[1] for node in tree.body if isinstance(node, ast.ImportFrom)]
+                 for path, tree in self.trees.items()}
+        while draws:
+            free = [name for name in draws if not [other for other in draws[name] if other in draws]]
+            self.assertNotEqual(free, [], draws)
+            draws = {name: others for name, others in draws.items() if name not in free}
+
+    def test_names(self):
+        for where, node in self.nodes():
+            if isinstance(node, ast.Name):
+                self.assertRegex(node.id, r"\A[A-Za-z]\w*\Z", where)
+                if hasattr(builtins, node.id):
+                    self.assertIsInstance(node.ctx, ast.Load, where)
+                    self.assertIn(node.id, PYTHONS_OWN, where)
+            if isinstance(node, ast.arg):
+                self.assertFalse(hasattr(builtins, node.arg) or node.arg.startswith("_"), where)
+            if isinstance(node, ast.Attribute):
+                pythons = any(hasattr(kind, node.attr) for kind in (str, int, list, tuple, dict, set, bytes))
+                self.assertTrue(not pythons or node.attr in METHODS, where)
+
+    def test_no_name_is_a_method_here_and_a_value_there(self):
+        methods = [item.name for where, node in self.nodes() if isinstance(node, ast.ClassDef) for item in node.body
+                   if isinstance(item, ast.FunctionDef)]
+        values = [node.attr for where, node in self.nodes()
+                  if isinstance(node, ast.Attribute) and isinstance(node.ctx, ast.Store)]
+        self.assertEqual(set(methods) & set(values), set())
+
+    def test_walked_at_once(self):
+        for where, node in self.nodes():
+            if isinstance(node, (ast.Assign, ast.Return)):
+                self.assertNotIn(called(node.value), WALKED + ("set", "frozenset"), where)
+            if isinstance(node, (ast.For, ast.comprehension)):
+                self.assertNotIn(called(node.iter), ("set", "frozenset"), where)

@@ -1,0 +1,35 @@
+import inspect
+import unittest
+
+from allparts import books, machine, walks
+
+FUNCTIONS = {
+    books: {
+        "is_word": "(thing)",
+        "is_book": "(thing)",
+        "signs_in": "(book)",
+        "places": "(book, word)",
+        "parts_of": "(book, long)",
+    },
+    walks: {
+        "walk": "(table, word)",
+        "stand_of": "(table, word)",
+        "longest": "(table, stand)",
+        "shortest": "(table, stand)",
+        "words": "(table, stand)",
+    },
+    machine.Machine: {
+        "__init__": "(self, book=None)",
+        "begin": "(self)",
+        "grow": "(self, text, word)",
+        "book": "(self)",
+        "table": "(self)",
+    },
+}
+
+
+class Interface(unittest.TestCase):
+    def test_names_and_arguments(self):
+        for holder, functions in FUNCTIONS.items():
+            for name, arguments in functions.items():
+                self.assertEqual(str(inspect.signature(getattr(holder, name))), arguments, name)
