@@ -1,5 +1,7 @@
 """Whole numbers, words and books; where a word ends in a book, and the parts of a length."""
 
+from allparts.errors import NoText
+
 MOST_WORD_SIGNS = 200
 MOST_TEXTS = 8
 MOST_SIGNS = 120
@@ -22,6 +24,11 @@ def is_book(thing):
     if not isinstance(thing, list) or len(thing) > MOST_TEXTS:
         return False
     return all([has_only_signs(text) for text in thing]) and signs_in(thing) <= MOST_SIGNS
+
+
+def refuse_no_text(book, number):
+    if not is_whole(number) or not 0 <= number < len(book):
+        raise NoText("there is no text of this number")
 
 
 def signs_in(book):

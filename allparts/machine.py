@@ -1,22 +1,15 @@
-"""The machine: it grows with its texts, sign by sign, and tells the table of its book."""
+"""The machine: it keeps texts that grow, within the bounds of a book, and tells the table of its book."""
 
-from allparts.books import MOST_SIGNS, MOST_TEXTS, is_whole, signs_in
-from allparts.errors import NoText, TooMany
+from allparts.books import MOST_SIGNS, MOST_TEXTS, refuse_no_text, signs_in
+from allparts.errors import TooMany
+from allparts.nodes import Nodes
 
 
 class Machine:
-    # A node is a stand under the number by which it came; only the table numbers stands in order.
-    # Of each node are kept how long its longest word is, its link, and its ways, a dict from sign to node.
-    # The head of a text is the node of the whole text. No longer word ends there, so the text is the longest
-    # word of its head, and a split, which takes shorter words away to a new node, leaves the head as it is.
-
     def __init__(self, book=None):
         self.texts = []
         self.heads = []
-        self.longs = []
-        self.links = []
-        self.ways = []
-        self.new_node(0, None, {})
+        self.nodes = Nodes()
         if book is not None:
             for text in book:
                 self.grow(self.begin(), text)
@@ -29,73 +22,14 @@ class Machine:
         return len(self.texts) - 1
 
     def grow(self, text, word):
-        if not is_whole(text) or not 0 <= text < len(self.texts):
-            raise NoText("there is no text of this number")
+        refuse_no_text(self.texts, text)
         if signs_in(self.texts) + len(word) > MOST_SIGNS:
             raise TooMany("there is no room for so many more signs")
-        for sign in word:
-            self.heads[text] = self.head_behind(self.heads[text], sign)
+        self.heads[text] = self.nodes.head_grown(self.heads[text], word)
         self.texts[text] = self.texts[text] + word
 
     def book(self):
         return list(self.texts)
 
     def table(self):
-        numbers = self.numbers_by_node()
-        return [self.row_of(node, numbers) for node in numbers]
-
-    def new_node(self, long, link, ways):
-        self.longs.append(long)
-        self.links.append(link)
-        self.ways.append(ways)
-        return len(self.longs) - 1
-
-    def head_behind(self, head, sign):
-        # The grown text may be a part already, of this text or of another one.
-        if sign in self.ways[head]:
-            return self.node_just_behind(head, sign)
-        fresh = self.new_node(self.longs[head] + 1, 0, {})
-        node = head
-        while node is not None and sign not in self.ways[node]:
-            self.ways[node][sign] = fresh
-            node = self.links[node]
-        if node is not None:
-            self.links[fresh] = self.node_just_behind(node, sign)
-        return fresh
-
-    def node_just_behind(self, node, sign):
-        # The longest word of the node, with the sign behind it, gets a new place now, and so do its tails,
-        # but longer words that had its places don't: where there are such, it is split off from them.
-        old = self.ways[node][sign]
-        long = self.longs[node] + 1
-        if self.longs[old] == long:
-            return old
-        half = self.new_node(long, self.links[old], dict(self.ways[old]))
-        self.links[old] = half
-        while node is not None and self.ways[node].get(sign) == old:
-            self.ways[node][sign] = half
-            node = self.links[node]
-        return half
-
-    def numbers_by_node(self):
-        # Gone through breadth first, by rising signs, each node is met first by its shortest word,
-        # and the nodes are met in the order of these words: that is the order of the stands.
-        numbers = {0: 0}
-        met = [0]
-        done = 0
-        while done < len(met):
-            ways = self.ways[met[done]]
-            for sign in sorted(ways):
-                if ways[sign] not in numbers:
-                    numbers[ways[sign]] = len(met)
-                    met.append(ways[sign])
-            done = done + 1
-        return numbers
-
-    def row_of(self, node, numbers):
-        link = self.links[node]
-        ways = self.ways[node]
-        steps = tuple([(sign, numbers[ways[sign]]) for sign in sorted(ways)])
-        if link is None:
-            return (0, 0, None, steps)
-        return (self.longs[link] + 1, self.longs[node], numbers[link], steps)
+        return self.nodes.table()

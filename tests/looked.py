@@ -8,6 +8,12 @@ LETTERS = "abcdefghijklmnopqrstuvwxyz"
 NO_NUMBERS = (True, False, None, "0", "", "a", 0.0, 1.5, [], [0], (), (0,), {}, object())
 
 
+def no_numbers_below(count):
+    """Things that are no whole number from 0 on that is less than count."""
+    numbers = (-1, -2, -count - 1, count, count + 1, 300, 10 ** 59, -(10 ** 59), 10 ** 60 - 1, 1 - 10 ** 60)
+    return numbers + NO_NUMBERS
+
+
 def places_by_word(book):
     found = {"": []}
     for number, text in enumerate(book):
@@ -51,6 +57,57 @@ def ways_of(group, number):
             assert len(behind) == 1, (group, sign)
             ways.append((sign, behind.pop()))
     return tuple(ways)
+
+
+def chain(group, found, number):
+    """The numbers of the stands of all tails of a stand's longest word, each once, the longest tail's first."""
+    tails = [group[-1][start:] for start in range(len(group[-1]) + 1)]
+    return list(dict.fromkeys(number[tail] for tail in tails))
+
+
+def parts_in_order(book):
+    return sorted(word for word in places_by_word(book) if word != "")
+
+
+def shared(book, some):
+    parts = [word for word in places_by_word(book) if all(word in book[number] for number in some)]
+    word = min(parts, key=lambda part: (-len(part), part))
+    ends = [min(end for end in range(len(book[number]) + 1) if book[number][:end].endswith(word)) for number in some]
+    return (word, ends)
+
+
+def often(book, times):
+    found = places_by_word(book)
+    parts = [word for word in found if word != "" and len(found[word]) >= times]
+    if not parts:
+        return None
+    word = min(parts, key=lambda part: (-len(part), part))
+    return (word, found[word])
+
+
+def once(book):
+    found = places_by_word(book)
+    parts = [word for word in found if word != "" and len(found[word]) == 1]
+    if not parts:
+        return None
+    word = min(parts, key=lambda part: (len(part), part))
+    return (word, found[word][0])
+
+
+def lacking(book, letters):
+    found = places_by_word(book)
+    for long in itertools.count(1):
+        for signs in itertools.product(letters, repeat=long):
+            if "".join(signs) not in found:
+                return "".join(signs)
+
+
+def full(book, letters):
+    found = places_by_word(book)
+    long = 0
+    while all("".join(signs) in found for signs in itertools.product(letters, repeat=long + 1)):
+        long += 1
+    return long
 
 
 def all_words(letters, most):

@@ -24,6 +24,17 @@ split splitlines startswith strip update upper values zfill bit_length __init__"
 WORDS = """type typing typing_extensions enum Enum IntEnum StrEnum Flag IntFlag Generic Protocol ABC ABCMeta namedtuple
 NamedTuple TypedDict TYPE_CHECKING abstractmethod""".split()
 
+NOT_USED = """register mro elements open input version_info with_traceback add_note attrgetter breakpoint builtins compile
+copyright credits delattr dir eval exec exit gc getattr globals hasattr help id importlib license locals methodcaller os quit
+setattr super type vars sys chr format format_map sort args encode""".split()
+
+KEYWORDS = {"sorted": ("key", "reverse"), "min": ("key", "default"), "max": ("key", "default"), "sum": ("start",),
+            "enumerate": ("start",), "zip": ("strict",)}
+
+WALKING = ("list", "tuple", "dict", "sorted", "sum", "any", "all", "enumerate", "zip", "min", "max", "join")
+
+CHANGING = ("append", "clear", "extend", "insert", "pop", "remove", "reverse", "setdefault", "update")
+
 WALKED = ("zip", "enumerate", "reversed", "range", "items", "keys", "values")
 
 
@@ -140,9 +151,74 @@ class Form(unittest.TestCase):
                   if isinstance(node, ast.Attribute) and isinstance(node.ctx, ast.Store)]
         self.assertEqual(set(methods) & set(values), set())
 
-    def test_walked_at_once(self):
+    def test_names_that_are_not_used(self):
         for where, node in self.nodes():
-            if isinstance(node, (ast.Assign, ast.Return)):
-                self.assertNotIn(called(node.value), WALKED + ("set", "frozenset"), where)
-            if isinstance(node, (ast.For, ast.comprehension)):
-                self.assertNotIn(called(node.iter), ("set", "frozenset"), where)
+            for field in ("id", "attr", "name", "arg"):
+                name = getattr(node, field, None)
+                if isinstance(name, str):
+                    self.assertNotIn(name, NOT_USED, where)
+                    self.assertFalse(name.startswith("_") and name != "__init__", where)
+
+    def test_no_local_is_called_like_a_class_or_an_import(self):
+        for path, tree in self.trees.items():
+            taken = [alias.name for node in tree.body if isinstance(node, ast.ImportFrom) for alias in node.names]
+            taken += [node.name for node in tree.body if isinstance(node, ast.ClassDef)]
+            for node in ast.walk(tree):
+                if isinstance(node, ast.arg):
+                    self.assertNotIn(node.arg, taken, path)
+                if isinstance(node, ast.Name) and isinstance(node.ctx, ast.Store):
+                    self.assertNotIn(node.id, taken, path)
+
+    def test_every_import_is_used(self):
+        for path, tree in self.trees.items():
+            used = [node.id for node in ast.walk(tree) if isinstance(node, ast.Name)]
+            for node in tree.body:
+                if isinstance(node, ast.ImportFrom):
+                    self.assertEqual([alias.name for alias in node.names if alias.name not in used], [], path)
+
+    def test_keywords(self):
+        for where, node in self.nodes():
+            if isinstance(node, ast.Call):
+                for keyword in node.keywords:
+                    self.assertIn(keyword.arg, KEYWORDS.get(called(node), ()), where)
+                    if keyword.arg in ("reverse", "strict"):
+                        self.assertIsInstance(keyword.value, ast.Constant, where)
+
+    def test_numbers_and_texts(self):
+        for where, node in self.nodes():
+            if isinstance(node, ast.Constant) and isinstance(node.value, str):
+                self.assertNotIn("%", node.value, where)
+            if isinstance(node, ast.BinOp) and isinstance(node.op, ast.Pow):
+                self.assertIsInstance(node.right, ast.Constant, where)
+
+    def placed(self):
+        """Each call with the node that it stands straight in."""
+        for where, node in self.nodes():
+            for child in ast.iter_child_nodes(node):
+                if isinstance(child, ast.Call):
+                    yield where, child, node
+
+    def test_walked_at_once(self):
+        for where, call, around in self.placed():
+            if called(call) in WALKED:
+                if isinstance(around, (ast.For, ast.comprehension)):
+                    self.assertIs(around.iter, call, where)
+                else:
+                    self.assertIn(called(around), WALKING, where)
+
+    def test_sets_are_not_kept(self):
+        for where, call, around in self.placed():
+            if called(call) in ("set", "frozenset"):
+                beside = isinstance(around, (ast.Compare, ast.BinOp))
+                self.assertTrue(beside or called(around) in ("sorted", "len") and not around.keywords, where)
+
+    def test_what_a_loop_walks_is_not_changed_in_it(self):
+        for where, node in self.nodes():
+            if isinstance(node, ast.For):
+                walked = {ast.unparse(part) for part in ast.walk(node.iter) if isinstance(part, (ast.Name, ast.Attribute))}
+                for inner in node.body:
+                    for part in ast.walk(inner):
+                        if isinstance(part, ast.Call) and called(part) in CHANGING and isinstance(part.func, ast.Attribute):
+                            self.assertNotIn(ast.unparse(part.func.value), walked, where)
+                        if isinstance(part, ast.Subscript) and isinstance(part.ctx, ast.Store):
+                            self.assertNotIn(ast.unparse(part.value), walked, where)

@@ -1,7 +1,7 @@
 import inspect
 import unittest
 
-from allparts import books, machine, walks
+from allparts import books, lacking, links, machine, order, shared, walks
 
 FUNCTIONS = {
     books: {
@@ -17,6 +17,29 @@ FUNCTIONS = {
         "longest": "(table, stand)",
         "shortest": "(table, stand)",
         "words": "(table, stand)",
+    },
+    links: {
+        "chain": "(table, stand)",
+        "kids": "(table, stand)",
+        "places_by": "(book, table)",
+        "counts": "(book, table)",
+        "firsts": "(book, table)",
+    },
+    order: {
+        "unlike": "(table)",
+        "counted": "(table, long)",
+        "part_at": "(table, number)",
+        "number_of": "(table, word)",
+    },
+    shared: {
+        "texts_by": "(book, table)",
+        "shared": "(book, some)",
+        "often": "(book, times)",
+        "once": "(book)",
+    },
+    lacking: {
+        "lacking": "(book, letters)",
+        "full": "(book, letters)",
     },
     machine.Machine: {
         "__init__": "(self, book=None)",

@@ -76,9 +76,7 @@ class Words(unittest.TestCase):
     def test_no_stand(self):
         for book in ([], [""], ["a"], ["abb", "ba"]):
             table = Machine(book).table()
-            count = len(table)
-            numbers = (-1, -count, -count - 1, count, count + 1, 300, 10 ** 59, -(10 ** 59))
-            for thing in numbers + looked.NO_NUMBERS:
+            for thing in looked.no_numbers_below(len(table)):
                 for told in (longest, shortest, words):
                     with self.assertRaises(PartError) as caught:
                         told(table, thing)
