@@ -110,6 +110,53 @@ def full(book, letters):
     return long
 
 
+def is_part(book, word):
+    return word == "" or any(word in text for text in book)
+
+
+def matches(book, word):
+    found = []
+    for end in range(len(word) + 1):
+        tails = [word[start:end] for start in range(end + 1)]
+        found.append(max(len(tail) for tail in tails if is_part(book, tail)))
+    return found
+
+
+def best_pieces(choices):
+    """Of lists of pieces the ones of fewest, and of these the one of the longest pieces, from the first on."""
+    return min(choices, key=lambda some: (len(some), [-len(piece) for piece in some]))
+
+
+def pieces(book, word):
+    """The best pieces of each rest of the word, the shortest rest first, by trying every part that it begins with."""
+    best = {len(word): []}
+    for start in reversed(range(len(word))):
+        ends = [end for end in range(start + 1, len(word) + 1) if end in best and is_part(book, word[start:end])]
+        if ends:
+            best[start] = best_pieces([word[start:end]] + best[end] for end in ends)
+    return best.get(0)
+
+
+def cuts(word):
+    """All lists of words but the empty one that make the word, one behind another."""
+    found = [[]] if word == "" else []
+    for end in range(1, len(word) + 1):
+        found += [[word[:end]] + behind for behind in cuts(word[end:])]
+    return found
+
+
+def rests_by(book):
+    """For each stand, in order, the sorted tuples (text, rest) that are behind it."""
+    found = places_by_word(book)
+    return [sorted((text, book[text][end:]) for text, end in found[group[0]]) for group in stands(book)]
+
+
+def parted(rests, one, other):
+    found = [(text, rest, one) for text, rest in rests[one] if (text, rest) not in rests[other]]
+    found += [(text, rest, other) for text, rest in rests[other] if (text, rest) not in rests[one]]
+    return min(found, default=None)
+
+
 def all_words(letters, most):
     return ["".join(signs) for long in range(most + 1) for signs in itertools.product(letters, repeat=long)]
 

@@ -54,6 +54,10 @@ class Form(unittest.TestCase):
         return [(f"{path.name}:{getattr(node, 'lineno', 0)}", node)
                 for path, tree in self.trees.items() for node in ast.walk(tree)]
 
+    def methods(self):
+        return [item.name for where, node in self.nodes() if isinstance(node, ast.ClassDef) for item in node.body
+                if isinstance(item, ast.FunctionDef)]
+
     def test_files(self):
         self.assertIn(PACKAGE / "__init__.py", self.files)
         for path in self.files:
@@ -112,6 +116,89 @@ class Form(unittest.TestCase):
                     bound.append(node.name)
             self.assertEqual(len(bound), len(set(bound)), path)
 
+    def held_plain(self, value, above, where):
+        """Written numbers and texts and functions defined above, and tuples, lists and dicts of these."""
+        if isinstance(value, ast.Name):
+            self.assertIn(value.id, above, where)
+        elif isinstance(value, (ast.Tuple, ast.List, ast.Dict)):
+            within = value.keys + value.values if isinstance(value, ast.Dict) else value.elts
+            for thing in within:
+                self.held_plain(thing, above, where)
+                self.assertFalse(not isinstance(value, ast.Tuple) and isinstance(thing, (ast.List, ast.Dict)), where)
+        else:
+            self.assertIsInstance(value, ast.Constant, where)
+
+    def test_values_of_the_top(self):
+        for path, tree in self.trees.items():
+            above = []
+            for node in tree.body:
+                if isinstance(node, ast.FunctionDef):
+                    above.append(node.name)
+                if isinstance(node, ast.Assign):
+                    self.held_plain(node.value, above, f"{path.name}:{node.lineno}")
+
+    def test_lists_and_dicts_of_the_top_are_only_read(self):
+        for path, tree in self.trees.items():
+            kept = [node.targets[0].id for node in tree.body
+                    if isinstance(node, ast.Assign) and isinstance(node.value, (ast.List, ast.Dict))]
+            for node in ast.walk(tree):
+                for child in ast.iter_child_nodes(node):
+                    if isinstance(child, ast.Name) and child.id in kept and isinstance(child.ctx, ast.Load):
+                        where = f"{path.name}:{child.lineno}"
+                        self.assertIsInstance(node, (ast.Subscript, ast.Compare, ast.For, ast.comprehension), where)
+                        self.assertIsInstance(getattr(node, "ctx", ast.Load()), ast.Load, where)
+
+    def test_methods_are_called_where_they_stand(self):
+        own = self.methods()
+        called_ones = [node.func for where, node in self.nodes() if isinstance(node, ast.Call)]
+        for where, node in self.nodes():
+            if isinstance(node, ast.Attribute) and node.attr in METHODS + own:
+                self.assertIn(node, called_ones, where)
+
+    def test_classes_are_called_or_asked_for(self):
+        classes = [node.name for where, node in self.nodes() if isinstance(node, ast.ClassDef)]
+        for where, node in self.nodes():
+            for child in ast.iter_child_nodes(node):
+                if isinstance(child, ast.Name) and child.id in classes:
+                    base = isinstance(node, ast.Attribute) and node.attr == "__init__"
+                    fits = base or isinstance(node, (ast.ClassDef, ast.ExceptHandler, ast.Raise))
+                    fits = fits or isinstance(node, ast.Call) and (node.func is child or called(node) == "isinstance")
+                    self.assertTrue(fits, where)
+
+    def test_errors_are_made_on_the_spot_and_taken_by_name(self):
+        free = [node.name for node in self.trees[PACKAGE / "errors.py"].body if isinstance(node, ast.ClassDef)]
+        free += ["KeyError", "ZeroDivisionError", "StopIteration"]
+        for where, node in self.nodes():
+            if isinstance(node, ast.Raise):
+                self.assertIsInstance(node.exc, ast.Call, where)
+            if isinstance(node, ast.ExceptHandler):
+                self.assertIn(ast.unparse(node.type), free, where)
+
+    def test_what_things_are_held_to_be(self):
+        for where, node in self.nodes():
+            if called(node) == "isinstance":
+                self.assertIn(ast.unparse(node.args[1]), ("int", "str", "bool", "list", "tuple", "dict"), where)
+
+    def test_pythons_own_are_called(self):
+        for where, node in self.nodes():
+            for child in ast.iter_child_nodes(node):
+                if isinstance(child, ast.Name) and child.id in PYTHONS_OWN:
+                    at_call = isinstance(node, ast.Call) and (node.func is child or called(node) == "isinstance")
+                    self.assertTrue(at_call or isinstance(node, (ast.keyword, ast.ClassDef)), where)
+
+    def test_no_annotations(self):
+        for where, node in self.nodes():
+            self.assertIsNone(getattr(node, "annotation", None), where)
+            self.assertIsNone(getattr(node, "returns", None), where)
+
+    def test_what_stands_in_written_texts(self):
+        for where, node in self.nodes():
+            if isinstance(node, ast.FormattedValue):
+                self.assertIsInstance(node.value, ast.Name, where)
+                self.assertIsNone(node.format_spec, where)
+        for path in self.files:
+            self.assertNotRegex(path.read_text("utf-8"), r"\\[^nt\\'\"]", path)
+
     def test_imports(self):
         for where, node in self.nodes():
             if isinstance(node, ast.ImportFrom):
@@ -145,11 +232,9 @@ class Form(unittest.TestCase):
                 self.assertTrue(not pythons or node.attr in METHODS, where)
 
     def test_no_name_is_a_method_here_and_a_value_there(self):
-        methods = [item.name for where, node in self.nodes() if isinstance(node, ast.ClassDef) for item in node.body
-                   if isinstance(item, ast.FunctionDef)]
         values = [node.attr for where, node in self.nodes()
                   if isinstance(node, ast.Attribute) and isinstance(node.ctx, ast.Store)]
-        self.assertEqual(set(methods) & set(values), set())
+        self.assertEqual(set(self.methods()) & set(values), set())
 
     def test_names_that_are_not_used(self):
         for where, node in self.nodes():

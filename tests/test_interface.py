@@ -1,7 +1,7 @@
 import inspect
 import unittest
 
-from allparts import books, lacking, links, machine, order, shared, walks
+from allparts import books, desk, lacking, links, machine, order, parted, pieces, shared, texts, walks
 
 FUNCTIONS = {
     books: {
@@ -41,12 +41,30 @@ FUNCTIONS = {
         "lacking": "(book, letters)",
         "full": "(book, letters)",
     },
+    pieces: {
+        "matches": "(table, word)",
+        "pieces": "(table, word)",
+    },
+    parted: {
+        "rests": "(book, table, stand)",
+        "parted": "(book, table, one, other)",
+    },
+    texts: {
+        "show_book": "(book)",
+        "show_table": "(table)",
+        "read_book": "(text)",
+        "read_table": "(text)",
+    },
     machine.Machine: {
         "__init__": "(self, book=None)",
         "begin": "(self)",
         "grow": "(self, text, word)",
         "book": "(self)",
         "table": "(self)",
+    },
+    desk.Desk: {
+        "__init__": "(self)",
+        "say": "(self, row)",
     },
 }
 
